@@ -1,0 +1,1 @@
+"""Almostall: what nearly every web has."""
