@@ -13,7 +13,8 @@ class NoPlace(WebError):
     """A number that is no place, or that may not stand where it stands."""
 
     def __init__(self, place):
-        super().__init__(f"not a place that may stand here: {place}")
+        # Python refuses to spell out numbers of many thousand figures, so the field alone has it.
+        super().__init__("not a place that may stand here")
         self.place = place
 
 
@@ -21,7 +22,7 @@ class NoTie(WebError):
     """A tie that cannot be: of a place and itself, or of two places that have theirs already."""
 
     def __init__(self, place):
-        super().__init__(f"not a tie that may stand here, of place {place}")
+        super().__init__("not a tie that may stand here")
         self.place = place
 
 

@@ -7,6 +7,8 @@ from almostall.webs import Web
 from samples import all_webs, made_web
 
 FORTY_FIGURES = 10 ** 39
+# More figures than Python is ready to write down.
+VERY_GREAT = 10 ** 5000
 NO_PLACES_OF_FOUR = (4, 5, -1, -4, 64, FORTY_FIGURES, -FORTY_FIGURES)
 
 
@@ -49,6 +51,10 @@ class Making(unittest.TestCase):
         for count in (0, -1, -64, 65, 66, FORTY_FIGURES, -FORTY_FIGURES):
             with self.subTest(count=count):
                 self.refused(NoCount, count, [])
+
+    def test_numbers_too_great_to_be_written_down(self):
+        self.refused(NoCount, VERY_GREAT, [])
+        self.assertTrue(self.refused(NoPlace, 4, [(0, VERY_GREAT)]).place == VERY_GREAT)
 
     def test_truths_are_no_counts(self):
         self.refused(NoCount, True, [])
