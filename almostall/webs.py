@@ -14,9 +14,9 @@ def is_place(number, count):
     return is_whole(number) and 0 <= number < count
 
 
-def refuse_count(count):
-    if not is_whole(count) or not 1 <= count <= MOST_PLACES:
-        raise NoCount(f"a count is a whole number from 1 to {MOST_PLACES}")
+def refuse_outside(number, least, most):
+    if not is_whole(number) or not least <= number <= most:
+        raise NoCount(f"a whole number from {least} to {most} is due")
 
 
 def refuse_places(count, numbers):
@@ -62,7 +62,7 @@ class Web:
     """Some places, from 0 on, and which two of them are tied."""
 
     def __init__(self, count, ties):
-        refuse_count(count)
+        refuse_outside(count, 1, MOST_PLACES)
         refuse_ends(count, ties)
         refuse_loops(ties)
         self.count = count

@@ -1,7 +1,10 @@
 """Formulas and webs that several tests look at."""
 
+import contextlib
 import itertools
 import random
+import time
+import unittest
 
 from almostall.webs import Web
 
@@ -59,3 +62,40 @@ def all_webs(count):
     for many in range(len(pairs) + 1):
         for ties in itertools.combinations(pairs, many):
             yield Web(count, list(ties))
+
+
+def made_sentence(dice, parts, names=NAMES):
+    """A sentence of these names alone, as the dice fall: each name that is left free is bound at last."""
+    formula = renamed(made_formula(dice, parts), dict(zip(NAMES, [dice.choice(names) for name in NAMES])))
+    for name in dice.sample(names, len(names)):
+        formula = (dice.choice(("some", "all")), name, formula)
+    return formula
+
+
+def renamed(formula, names):
+    """Each name in the stead of another one, those behind some and all too."""
+    return tuple([renamed(each, names) if isinstance(each, tuple) else names.get(each, each) for each in formula])
+
+
+def nested_sentence(dice, times):
+    """Some and all within one another so many times, a formula of all four names inmost."""
+    formula = ("or", ("and", ("tied", "x", "y"), ("not", ("tied", "z", "w"))), ("same", "y", "w"))
+    for name in (NAMES * times)[:times]:
+        formula = (dice.choice(("some", "all")), name, formula)
+    return formula
+
+
+@contextlib.contextmanager
+def soon(case, seconds=20):
+    """Far more than is needed, far less than going through all places at each some and all."""
+    start = time.monotonic()
+    yield
+    case.assertLess(time.monotonic() - start, seconds)
+
+
+class Refusing(unittest.TestCase):
+    def refused(self, refusal, act, *handed):
+        with self.assertRaises(refusal) as caught:
+            act(*handed)
+        self.assertIs(type(caught.exception), refusal)
+        return caught.exception
