@@ -50,6 +50,54 @@ def joined(blocks, width):
     return blocks[0]
 
 
+def tuples_of(points, many):
+    """All tuples of so many of these points, the last one moving fastest."""
+    told = [()]
+    for time in range(many):
+        told = [(*ahead, point) for ahead in told for point in points]
+    return told
+
+
+class Axes:
+    """Cells over numbered axes with the same count of points on each, and some bits at each cell.
+
+    The point p on axis i lifts a cell by p * step(i). So what is on a later axis lies above, and
+    goes away by folding.
+    """
+
+    def __init__(self, count, width):
+        self.count = count
+        self.steps = [width]
+
+    def step(self, number):
+        while len(self.steps) <= number:
+            self.steps.append(self.steps[-1] * self.count)
+        return self.steps[number]
+
+    def full(self, many):
+        return ones(self.step(many))
+
+    def spread(self, cells, low, many):
+        """Cells over the axes below the low one, the same at each point of those from there on."""
+        return repeated(cells, self.step(low), self.step(many) // self.step(low))
+
+    def first_cells(self, number, many):
+        """All cells at the first point of one axis."""
+        return self.spread(self.full(number), number + 1, many)
+
+    def line(self, truths, number, many):
+        """Cells over so many axes that hang on the point on one of them alone."""
+        return self.stacked([self.spread(truth, 0, number) for truth in truths], number, many)
+
+    def sheet(self, grid, high, low, many):
+        """Cells over so many axes that hang on the points on two, the row being the higher one's."""
+        return self.stacked([self.line(row, low, high) for row in grid], high, many)
+
+    def stacked(self, blocks, number, many):
+        """Cells over so many axes, from one block for each point of one axis over those below it."""
+        return self.spread(joined(blocks, self.step(number)), number + 1, many)
+
+
 def scope_with(scope, name):
     return scope if name in scope else (*scope, name)
 

@@ -17,9 +17,12 @@ def at_most_one(top, bottom):
 
 
 def power(base, times):
+    # By squares: of great numbers one factor after another would take too long.
     product = 1
-    for time in range(times):
-        product *= base
+    for figure in f"{times:b}":
+        product *= product
+        if figure == "1":
+            product *= base
     return product
 
 

@@ -1,6 +1,6 @@
 """Whether a formula holds in a web, and for which places."""
 
-from almostall.cells import folded, joined, ones, reckoned, repeated, scope_with
+from almostall.cells import Axes, folded, ones, reckoned, repeated, scope_with, tuples_of
 from almostall.errors import NoName, NoPlace, TooMany
 from almostall.formulas import free_names
 from almostall.webs import is_place
@@ -9,33 +9,27 @@ from almostall.webs import is_place
 MOST_PLACES_BY_NAMES = {3: 30, 4: 9}
 
 
-def equal_rows(count):
-    return [[False] * u + [True] + [False] * (count - 1 - u) for u in range(count)]
+def equal_grid(count, full):
+    return [[0] * u + [full] + [0] * (count - 1 - u) for u in range(count)]
 
 
-class PlaceBoard:
-    """A web's places. A name in scope is an axis of the cells, any other name has its laid place.
+class PlaceBoard(Axes):
+    """The places of one web, or of so many webs at once that have the same places.
 
-    The names in scope are numbered from 0 on, and the place p on number i lifts a cell by
-    p * steps[i]. So what is in scope later lies above, and goes away by folding.
+    A name in scope is an axis of the cells, any other name has its laid place. The grid has at each
+    two places a bit for each of the webs: whether these two are tied in it.
     """
 
-    def __init__(self, web, laid):
-        self.count = web.count
-        self.tie_grid = web.rows
-        self.same_grid = equal_rows(web.count)
+    def __init__(self, count, width, tie_grid, laid):
+        super().__init__(count, width)
+        self.tie_grid = tie_grid
+        self.same_grid = equal_grid(count, ones(width))
         self.laid = laid
-        self.steps = [1]
         # The same few simple formulas stand in a formula again and again.
         self.known = {}
 
-    def step(self, number):
-        while len(self.steps) <= number:
-            self.steps.append(self.steps[-1] * self.count)
-        return self.steps[number]
-
     def every(self, scope):
-        return ones(self.step(len(scope)))
+        return self.full(len(scope))
 
     def simple(self, part, scope):
         if (part, scope) not in self.known:
@@ -54,7 +48,7 @@ class PlaceBoard:
         """The cells where the grid has a truth in the row of a's place and the column of b's."""
         many = len(scope)
         if a not in scope and b not in scope:
-            return self.every(scope) if grid[self.laid[a]][self.laid[b]] else 0
+            return self.spread(grid[self.laid[a]][self.laid[b]], 0, many)
         if a not in scope:
             return self.line(grid[self.laid[a]], scope.index(b), many)
         if b not in scope:
@@ -66,28 +60,17 @@ class PlaceBoard:
             return self.sheet(columns, scope.index(b), scope.index(a), many)
         return self.sheet(grid, scope.index(a), scope.index(b), many)
 
-    def line(self, truths, number, many):
-        """Cells over so many names that hang on the place of one of them alone."""
-        full = ones(self.step(number))
-        return self.stacked([full if truth else 0 for truth in truths], number, many)
-
-    def sheet(self, grid, high, low, many):
-        """Cells over so many names that hang on the places of two, the row being the higher one's."""
-        return self.stacked([self.line(row, low, high) for row in grid], high, many)
-
-    def stacked(self, blocks, number, many):
-        """Cells over so many names, from one block for each place of one name over those below it."""
-        width = self.step(number + 1)
-        return repeated(joined(blocks, self.step(number)), width, self.step(many) // width)
-
     def some(self, cells, name, scope):
         number = scope_with(scope, name).index(name)
         width = self.step(number)
         cells = folded(cells, width, self.count)
         if name not in scope:
             return cells & ones(width)
-        first = self.line([u == 0 for u in range(self.count)], number, len(scope))
-        return repeated(cells & first, width, self.count)
+        return repeated(cells & self.first_cells(number, len(scope)), width, self.count)
+
+
+def board_of(web, laid):
+    return PlaceBoard(web.count, 1, web.rows, laid)
 
 
 def refuse_laid(count, names, laid):
@@ -101,15 +84,7 @@ def refuse_laid(count, names, laid):
 
 def holds(web, formula, laid):
     refuse_laid(web.count, free_names(formula), laid)
-    return reckoned(formula, (), PlaceBoard(web, laid)) == 1
-
-
-def tuples_of(count, many):
-    """All tuples of so many places, rising."""
-    told = [()]
-    for time in range(many):
-        told = [(*places, place) for places in told for place in range(count)]
-    return told
+    return reckoned(formula, (), board_of(web, laid)) == 1
 
 
 def table(web, formula):
@@ -117,5 +92,6 @@ def table(web, formula):
     if web.count > MOST_PLACES_BY_NAMES.get(len(names), web.count):
         raise TooMany(f"a table of {len(names)} free names for {web.count} places")
     # The last name moves fastest from tuple to tuple, so it is the lowest axis.
-    cells = reckoned(formula, names[::-1], PlaceBoard(web, {}))
-    return [places for at, places in enumerate(tuples_of(web.count, len(names))) if (cells >> at) & 1]
+    cells = reckoned(formula, names[::-1], board_of(web, {}))
+    rows = tuples_of(list(range(web.count)), len(names))
+    return [places for at, places in enumerate(rows) if (cells >> at) & 1]

@@ -109,3 +109,83 @@ def plain_ways_by_rule(formula, names):
         if holds_when_ready(formula, dict(zip(names, place)), ties):
             found.append(way)
     return found
+
+
+def agrees_by_rule(one, other, position):
+    """Point 27."""
+    laid = [entry for entry in position if entry]
+    first, second = both_ways(one.ties), both_ways(other.ties)
+    return all((a == c) == (b == d) and ((a, c) in first) == ((b, d) in second)
+               for (a, b), (c, d) in itertools.combinations(laid, 2))
+
+
+def positions_by_rule(one, other, many):
+    entries = [(), *itertools.product(range(one.count), range(other.count))]
+    return sorted(itertools.product(entries, repeat=many))
+
+
+def replies_by_rule(one, other, position):
+    """Point 28: for each choice of the doubter all positions that the keeper can make."""
+    for name in range(len(position)):
+        pairs = [[(a, b) for b in range(other.count)] for a in range(one.count)]
+        pairs += [[(a, b) for a in range(one.count)] for b in range(other.count)]
+        for entries in pairs:
+            yield [position[:name] + (entry,) + position[name + 1:] for entry in entries]
+
+
+def rounds_by_rule(one, other, many):
+    """Point 28: of each position in how many rounds it is lost, or None."""
+    positions = positions_by_rule(one, other, many)
+    rounds = {position: None if agrees_by_rule(one, other, position) else 0 for position in positions}
+    added = True
+    k = 0
+    while added:
+        k += 1
+        added = [position for position in positions if rounds[position] is None and
+                 any(all(rounds[reply] is not None for reply in replies)
+                     for replies in replies_by_rule(one, other, position))]
+        rounds.update({position: k for position in added})
+    return rounds
+
+
+def chain_by_rule(web, chain, at, laid):
+    """Point 30: whether the step at this number holds."""
+    word, *rest = chain[at]
+    if word in ("tied", "same"):
+        return holds_by_rule(web, chain[at], laid)
+    if word == "not":
+        return not chain_by_rule(web, chain, rest[0], laid)
+    if word in ("and", "or"):
+        found = [chain_by_rule(web, chain, number, laid) for number in rest[0]]
+        return all(found) if word == "and" else any(found)
+    return any(chain_by_rule(web, chain, rest[1], {**laid, rest[0]: place}) for place in range(web.count))
+
+
+def chain_free_by_rule(chain):
+    """Point 30: the free names of each step, as sets."""
+    free = []
+    for word, *rest in chain:
+        if word in ("tied", "same"):
+            free.append(set(rest))
+        elif word == "not":
+            free.append(free[rest[0]])
+        elif word == "some":
+            free.append(free[rest[1]] - {rest[0]})
+        else:
+            free.append(set().union(*[free[number] for number in rest[0]]))
+    return free
+
+
+def chain_depths_by_rule(chain):
+    """Point 30: the depth of each step."""
+    depths = []
+    for word, *rest in chain:
+        if word in ("tied", "same"):
+            depths.append(0)
+        elif word == "not":
+            depths.append(depths[rest[0]])
+        elif word == "some":
+            depths.append(depths[rest[1]] + 1)
+        else:
+            depths.append(max([depths[number] for number in rest[0]], default=0))
+    return depths

@@ -9,6 +9,9 @@ import unittest
 from almostall.webs import Web
 
 NAMES = ("x", "y", "z", "w")
+FORTY_FIGURES = 10 ** 39
+# Where a count is due none of these is one.
+NO_COUNTS = (-1, -FORTY_FIGURES, FORTY_FIGURES, True, False)
 
 # One of each kind, and what the kinds do when they stand within one another.
 FORMULAS = [
@@ -99,3 +102,9 @@ class Refusing(unittest.TestCase):
             act(*handed)
         self.assertIs(type(caught.exception), refusal)
         return caught.exception
+
+    def same_share(self, share, expected, *why):
+        """A told share has the two numbers of the expected Fraction, which is in lowest terms."""
+        self.assertIs(type(share), tuple)
+        self.assertEqual([type(number) for number in share], [int, int])
+        self.assertEqual(share, (expected.numerator, expected.denominator), why)

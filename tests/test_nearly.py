@@ -10,10 +10,7 @@ from almostall.ready import ready, square_web, told_web
 from almostall.texts import read
 from almostall.truth import holds
 from by_rule import holds_by_rule, plain_ways_by_rule
-from samples import NAMES, Refusing, all_webs, made_sentence, nested_sentence, soon
-
-FORTY_FIGURES = 10 ** 39
-NO_COUNTS = (-1, -FORTY_FIGURES, FORTY_FIGURES, True, False)
+from samples import FORTY_FIGURES, NAMES, NO_COUNTS, Refusing, all_webs, made_sentence, nested_sentence, soon
 
 ALL = [
     "some x same(x, x)",
@@ -128,12 +125,7 @@ class Nearly(Refusing):
 
 class Bound(Refusing):
     def told(self, n, k):
-        share = bound(n, k)
-        self.assertIs(type(share), tuple)
-        self.assertEqual([type(number) for number in share], [int, int])
-        top, bottom = share
-        expected = bound_by_rule(n, k)
-        self.assertEqual((top, bottom), (expected.numerator, expected.denominator), (n, k))
+        self.same_share(bound(n, k), bound_by_rule(n, k), n, k)
 
     def test_few_places(self):
         for n in range(1, 130):

@@ -11,10 +11,9 @@ from almostall.texts import read, written
 from almostall.truth import holds, table
 from almostall.webs import Web
 from by_rule import holds_by_rule, plain_ways_by_rule, way_by_rule, ways_by_rule
-from samples import (FORMULAS, NAMES, Refusing, all_webs, made_formulas, made_sentence, made_web, nested_sentence,
-                     soon)
+from samples import (FORMULAS, FORTY_FIGURES, NAMES, Refusing, all_webs, made_formulas, made_sentence, made_web,
+                     nested_sentence, soon)
 
-FORTY_FIGURES = 10 ** 39
 PATH = Web(4, [(0, 1), (1, 2)])
 
 

@@ -7,9 +7,8 @@ from almostall.errors import NoCount, NoPlace, NoPrime, NoWant
 from almostall.ready import met, ready, square_web, told_web
 from almostall.webs import Web
 from by_rule import meeting_places, unmet_wants
-from samples import Refusing, all_webs, made_web, soon
+from samples import FORTY_FIGURES, Refusing, all_webs, made_web, soon
 
-FORTY_FIGURES = 10 ** 39
 SQUARE_PRIMES = [number for number in range(5, 62)
                  if number % 4 == 1 and all(number % divisor for divisor in range(2, number))]
 PATH = Web(5, [(0, 1), (1, 2), (2, 3)])

@@ -10,9 +10,8 @@ from almostall.texts import read
 from almostall.truth import holds, table
 from almostall.webs import Web
 from by_rule import holds_by_rule
-from samples import FORMULAS, NAMES, Refusing, all_webs, made_formulas, made_web, nested_sentence, soon
+from samples import FORMULAS, FORTY_FIGURES, NAMES, Refusing, all_webs, made_formulas, made_web, nested_sentence, soon
 
-FORTY_FIGURES = 10 ** 39
 # 0 - 1 - 2, and 3 by itself.
 PATH = Web(4, [(0, 1), (1, 2)])
 

@@ -4,9 +4,8 @@ import unittest
 
 from almostall.errors import NoCount, NoPlace, NoTie
 from almostall.webs import Web
-from samples import all_webs, made_web
+from samples import FORTY_FIGURES, all_webs, made_web
 
-FORTY_FIGURES = 10 ** 39
 # More figures than Python is ready to write down.
 VERY_GREAT = 10 ** 5000
 NO_PLACES_OF_FOUR = (4, 5, -1, -4, 64, FORTY_FIGURES, -FORTY_FIGURES)
