@@ -15,6 +15,11 @@ def ones(many):
     return (1 << many) - 1
 
 
+def bits_of(truths):
+    """A bit for each truth, the first one lowest."""
+    return sum([1 << at for at, truth in enumerate(truths) if truth])
+
+
 def jumps_to(times):
     """Jumps by which one block grows to so many, each jump going no farther than is filled."""
     jumps = []

@@ -1,10 +1,10 @@
 """Webs of few places, gone through one by one, and shares of them by a chance."""
 
-from almostall.cells import reckoned
+from almostall.cells import bits_of, reckoned
 from almostall.errors import NoChance
 from almostall.nearly import MOST_BOUND, refuse_free
 from almostall.ready import refuse_k
-from almostall.shares import choices, lowest, power
+from almostall.shares import lowest, power, unmet_share
 from almostall.truth import PlaceBoard
 from almostall.webs import Web, pairs_below, refuse_outside
 
@@ -25,15 +25,11 @@ def ties_of_all(count):
     return sorted(told, key=lambda ties: (len(ties), ties))
 
 
-def bits_where(truths):
-    return sum([1 << at for at, truth in enumerate(truths) if truth])
-
-
 def grid_of(count, webs):
     """At each two places a bit for each of the webs: whether these two are tied in it."""
     grid = [[0] * count for place in range(count)]
     for low, high in pairs_below(count):
-        grid[low][high] = bits_where([(low, high) in ties for ties in webs])
+        grid[low][high] = bits_of([(low, high) in ties for ties in webs])
         grid[high][low] = grid[low][high]
     return grid
 
@@ -41,7 +37,7 @@ def grid_of(count, webs):
 def webs_with(sentence, count):
     """The ties of each web of so many places that has the sentence, in the order of ties_of_all."""
     webs = ties_of_all(count)
-    cells = reckoned(sentence, (), PlaceBoard(count, len(webs), grid_of(count, webs), {}))
+    cells = reckoned(sentence, (), PlaceBoard(len(webs), grid_of(count, webs), [0] * count, {}))
     return [ties for at, ties in enumerate(webs) if (cells >> at) & 1]
 
 
@@ -70,13 +66,5 @@ def chance_bound(n, k, chance):
     refuse_outside(n, 1, MOST_BOUND)
     refuse_k(k)
     refuse_chance(chance)
-    if n < k:
-        return (1, 1)
     tied, bottom = lowest(chance[0], chance[1])
-    least = power(min(tied, bottom - tied), k)
-    whole = power(bottom, k)
-    # Of a fraction in lowest terms, and so of its powers, the top has no divisor of the bottom: what
-    # can be divided away is in the small number ahead alone, and great numbers need not be searched.
-    ahead, below = lowest(choices(n, k) << k, power(whole, n - k))
-    top = ahead * power(whole - least, n - k)
-    return (1, 1) if top >= below else (top, below)
+    return unmet_share(n, k, 1 << k, power(min(tied, bottom - tied), k), power(bottom, k))

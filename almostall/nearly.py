@@ -4,7 +4,7 @@ from almostall.errors import NoMark, NoSentence
 from almostall.formulas import free_names, names_of
 from almostall.plain import plain_ways
 from almostall.ready import refuse_k
-from almostall.shares import at_most_one, choices, power
+from almostall.shares import unmet_share
 from almostall.webs import refuse_outside
 
 MOST_BOUND = 1000
@@ -16,19 +16,20 @@ def refuse_free(formula):
         raise NoSentence(names)
 
 
+def answer_of(ways):
+    """What is told of a sentence that holds by these ways."""
+    return "all" if ways == [""] else "none"
+
+
 def nearly(sentence):
     refuse_free(sentence)
-    return "all" if plain_ways(sentence) == [""] else "none"
+    return answer_of(plain_ways(sentence))
 
 
 def bound(n, k):
     refuse_outside(n, 1, MOST_BOUND)
     refuse_k(k)
-    if n < k:
-        return (1, 1)
-    signs = 1 << k
-    top = choices(n, k) * signs * power(signs - 1, n - k)
-    return at_most_one(top, power(signs, n - k))
+    return unmet_share(n, k, 1 << k, 1, 1 << k)
 
 
 def enough(mark, k):

@@ -12,10 +12,6 @@ def lowest(top, bottom):
     return (top // divisor, bottom // divisor)
 
 
-def at_most_one(top, bottom):
-    return (1, 1) if top >= bottom else lowest(top, bottom)
-
-
 def power(base, times):
     # By squares: of great numbers one factor after another would take too long.
     product = 1
@@ -32,3 +28,18 @@ def choices(n, k):
     for taken in range(k):
         sets = sets * (n - taken) // (taken + 1)
     return sets
+
+
+def unmet_share(n, k, wants, least, whole):
+    """A bound for the share, among all of n places, of those in which some want of k places isn't met.
+
+    There are so many wants of each k places, and each other place meets one by a chance of least
+    by whole or more, a fraction in lowest terms.
+    """
+    if n < k:
+        return (1, 1)
+    # Such a fraction, 1 less it, and the powers of this are all in lowest terms: what can be divided
+    # away is in the small number ahead alone, and great numbers need not be searched for it.
+    ahead, below = lowest(choices(n, k) * wants, power(whole, n - k))
+    top = ahead * power(whole - least, n - k)
+    return (1, 1) if top >= below else (top, below)

@@ -1,8 +1,9 @@
-"""Whether a formula holds in a web, and for which places."""
+"""Whether a formula holds in a web, a ladder or a marked web, and for which places."""
 
 from almostall.cells import Axes, folded, ones, reckoned, repeated, scope_with, tuples_of
 from almostall.errors import NoName, NoPlace, TooMany
 from almostall.formulas import free_names
+from almostall.standing import marked_row
 from almostall.webs import is_place
 
 # With so many free names, how many places a web has at most for a table of them.
@@ -17,13 +18,15 @@ class PlaceBoard(Axes):
     """The places of one web, or of so many webs at once that have the same places.
 
     A name in scope is an axis of the cells, any other name has its laid place. The grid has at each
-    two places a bit for each of the webs: whether these two are tied in it.
+    two places a bit for each of the webs: whether these two are tied in it, or the first one ahead
+    of the second. The row has at each place such bits, too: whether it is marked.
     """
 
-    def __init__(self, count, width, tie_grid, laid):
-        super().__init__(count, width)
+    def __init__(self, width, tie_grid, mark_row, laid):
+        super().__init__(len(tie_grid), width)
         self.tie_grid = tie_grid
-        self.same_grid = equal_grid(count, ones(width))
+        self.same_grid = equal_grid(len(tie_grid), ones(width))
+        self.mark_row = mark_row
         self.laid = laid
         # The same few simple formulas stand in a formula again and again.
         self.known = {}
@@ -41,8 +44,12 @@ class PlaceBoard(Axes):
             return self.pair_cells(self.tie_grid, part[1], part[2], scope)
         if part[0] == "same":
             return self.pair_cells(self.same_grid, part[1], part[2], scope)
-        # Webs have no marked places.
-        return 0
+        return self.mark_cells(part[1], scope)
+
+    def mark_cells(self, a, scope):
+        if a not in scope:
+            return self.spread(self.mark_row[self.laid[a]], 0, len(scope))
+        return self.line(self.mark_row, scope.index(a), len(scope))
 
     def pair_cells(self, grid, a, b, scope):
         """The cells where the grid has a truth in the row of a's place and the column of b's."""
@@ -70,7 +77,7 @@ class PlaceBoard(Axes):
 
 
 def board_of(web, laid):
-    return PlaceBoard(web.count, 1, web.rows, laid)
+    return PlaceBoard(1, web.rows, marked_row(web), laid)
 
 
 def refuse_laid(count, names, laid):

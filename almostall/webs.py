@@ -50,16 +50,18 @@ def pairs_below(count):
     return [(low, high) for low in range(count) for high in range(low + 1, count)]
 
 
-def tie_rows(count, ties):
+def rows_of(count, ties):
+    """rows[a][b] tells whether (a, b), so and not the other way about, is among the ties."""
     rows = [[False] * count for place in range(count)]
-    for low, high in ties:
-        rows[low][high] = True
-        rows[high][low] = True
+    for a, b in ties:
+        rows[a][b] = True
     return tuple([tuple(row) for row in rows])
 
 
 class Web:
     """Some places, from 0 on, and which two of them are tied."""
+
+    MARKABLE = False
 
     def __init__(self, count, ties):
         refuse_outside(count, 1, MOST_PLACES)
@@ -68,7 +70,7 @@ class Web:
         self.count = count
         self.ties = tuple(sorted({(min(tie), max(tie)) for tie in ties}))
         # Formulas ask for the same ties over and over, so each answer is kept ready.
-        self.rows = tie_rows(count, self.ties)
+        self.rows = rows_of(count, self.ties + tuple([(v, u) for u, v in self.ties]))
 
     def tied(self, u, v):
         refuse_places(self.count, (u, v))

@@ -1,8 +1,9 @@
 """Whether one formula lies within another, and where it doesn't."""
 
 from almostall.formulas import free_names
-from almostall.plain import MOST_NAMES, plain_ways, refuse_ways, way_of
+from almostall.plain import plain_ways, refuse_ways, way_of
 from almostall.ready import told_web
+from almostall.standing import MOST_NAMES
 from almostall.webs import pairs_below, refuse_outside
 
 

@@ -2,16 +2,24 @@
 
 import itertools
 
+from almostall.ladders import Ladder
+from almostall.marked import MarkedWeb
+
+
+def is_tied(web, u, v):
+    """Points 10 and 33: tied or, in a ladder, the first one ahead."""
+    return (u, v) in web.ties or (not isinstance(web, Ladder) and (v, u) in web.ties)
+
 
 def holds_by_rule(web, formula, laid):
-    """Point 10."""
+    """Points 10, 33 and 38."""
     word, *rest = formula
     if word == "tied":
-        return tuple(sorted((laid[rest[0]], laid[rest[1]]))) in web.ties
+        return is_tied(web, laid[rest[0]], laid[rest[1]])
     if word == "same":
         return laid[rest[0]] == laid[rest[1]]
     if word == "marked":
-        return False
+        return isinstance(web, MarkedWeb) and laid[rest[0]] in web.marks
     if word == "not":
         return not holds_by_rule(web, rest[0], laid)
     if word == "and":
@@ -26,87 +34,114 @@ def both_ways(ties):
     return {*ties, *[(v, u) for u, v in ties]}
 
 
-def meeting_places(web, places, signs):
-    """Point 12: all places that meet a want."""
-    ties = both_ways(web.ties)
-    return [place for place in range(web.count) if meets(place, places, signs, ties)]
+def pairs_that_meet(web):
+    """All (place, other) where the place meets a want's sign t at the other one."""
+    return set(web.ties) if isinstance(web, Ladder) else both_ways(web.ties)
 
 
-def meets(place, places, signs, ties):
-    return place not in places and all(((place, other) in ties) == (sign == "t")
+def all_signs(web, many):
+    last = "mu" if isinstance(web, MarkedWeb) else [""]
+    return ["".join(signs) for signs in itertools.product(*["to"] * many, last)]
+
+
+def meets(web, pairs, place, places, signs):
+    """Points 12, 34 and 39."""
+    if isinstance(web, MarkedWeb) and (place in web.marks) != (signs[-1] == "m"):
+        return False
+    return place not in places and all(((place, other) in pairs) == (sign == "t")
                                        for other, sign in zip(places, signs))
 
 
+def meeting_places(web, places, signs):
+    """All places that meet a want."""
+    pairs = pairs_that_meet(web)
+    return [place for place in range(web.count) if meets(web, pairs, place, places, signs)]
+
+
 def unmet_wants(web, k):
-    """Points 12 and 13: all wants of at most k places that aren't met, in order."""
-    wants = [(len(places), places, "".join(signs)) for many in range(k + 1)
-             for places in itertools.combinations(range(web.count), many)
-             for signs in itertools.product("to", repeat=many)]
-    ties = both_ways(web.ties)
+    """Point 13: all wants of at most k places that aren't met, in order."""
+    wants = [(len(places), places, signs) for many in range(k + 1)
+             for places in itertools.combinations(range(web.count), many) for signs in all_signs(web, many)]
+    pairs = pairs_that_meet(web)
     return [(places, signs) for many, places, signs in sorted(wants)
-            if not any(meets(place, places, signs, ties) for place in range(web.count))]
+            if not any(meets(web, pairs, place, places, signs) for place in range(web.count))]
 
 
-def is_way(text, many):
-    """Point 15, each two names and each third one."""
-    pairs = list(itertools.combinations(range(many), 2))
-    if len(text) != len(pairs) or not set(text) <= set("sto"):
+def sign_table(text, many, one_way):
+    """The sign of each two names, either way about."""
+    sign = dict(zip(itertools.combinations(range(many), 2), text))
+    back = {"s": "s", "t": "o", "o": "t"} if one_way else {"s": "s", "t": "t", "o": "o"}
+    return {**sign, **{(b, a): back[sign[a, b]] for a, b in sign}}
+
+
+def is_way(text, many, one_way=False):
+    """Points 15 and 35, each two names and each third one."""
+    if len(text) != many * (many - 1) // 2 or not set(text) <= set("sto"):
         return False
-    sign = dict(zip(pairs, text))
-    sign.update({(b, a): sign[a, b] for a, b in pairs})
-    return all(sign[a, c] == sign[b, c] for a, b in pairs if sign[a, b] == "s"
+    sign = sign_table(text, many, one_way)
+    return all(sign[a, c] == sign[b, c] for a, b in sign if sign[a, b] == "s"
                for c in range(many) if c not in (a, b))
 
 
-def ways_by_rule(many):
+def ways_by_rule(many, one_way=False):
     length = many * (many - 1) // 2
-    return sorted(text for text in map("".join, itertools.product("sto", repeat=length)) if is_way(text, many))
+    texts = map("".join, itertools.product("sto", repeat=length))
+    return sorted(text for text in texts if is_way(text, many, one_way))
 
 
 def way_by_rule(web, places):
     def sign(u, v):
-        return "s" if u == v else "t" if tuple(sorted((u, v))) in web.ties else "o"
+        return "s" if u == v else "t" if is_tied(web, u, v) else "o"
 
     return "".join(sign(u, v) for u, v in itertools.combinations(places, 2))
 
 
-def holds_when_ready(formula, laid, ties):
-    """Point 16: whether it holds where one more place is tied as one likes.
+def ties_of_new(new, others, one_way):
+    """Each way one more place can be tied to the others, or ahead of them and behind them."""
+    for chosen in itertools.product((False, True), repeat=len(others)):
+        ends = [((new, other), (other, new)) for other in others]
+        if one_way:
+            yield {pair[turn] for pair, turn in zip(ends, chosen)}
+        else:
+            yield {end for pair, tied in zip(ends, chosen) if tied for end in pair}
 
-    laid tells what lies on the names; ties is a set of frozen pairs of these. Behind some and all
-    each of the others' places is taken, and a new one in each way it can be tied to them.
+
+def holds_when_ready(formula, laid, ties, one_way=False):
+    """Points 16 and 36: whether it holds where one more place is tied as one likes.
+
+    laid tells what lies on the names; ties is a set of pairs of these, either way about but in
+    ladders. Behind some and all each of the others' places is taken, and a new one in each way.
     """
     word, *rest = formula
     if word == "tied":
-        return frozenset((laid[rest[0]], laid[rest[1]])) in ties
+        return (laid[rest[0]], laid[rest[1]]) in ties
     if word == "same":
         return laid[rest[0]] == laid[rest[1]]
     if word == "marked":
         return False
     if word == "not":
-        return not holds_when_ready(rest[0], laid, ties)
+        return not holds_when_ready(rest[0], laid, ties, one_way)
     if word in ("and", "or"):
-        found = [holds_when_ready(inner, laid, ties) for inner in rest]
+        found = [holds_when_ready(inner, laid, ties, one_way) for inner in rest]
         return all(found) if word == "and" else any(found)
     others = sorted({laid[name] for name in laid if name != rest[0]})
-    found = [holds_when_ready(rest[1], {**laid, rest[0]: place}, ties) for place in others]
+    found = [holds_when_ready(rest[1], {**laid, rest[0]: place}, ties, one_way) for place in others]
     new = max(others, default=0) + 1
-    kept = {pair for pair in ties if pair <= set(others)}
-    for chosen in itertools.product((False, True), repeat=len(others)):
-        more = {frozenset((new, other)) for other, tied in zip(others, chosen) if tied}
-        found.append(holds_when_ready(rest[1], {**laid, rest[0]: new}, kept | more))
+    kept = {pair for pair in ties if set(pair) <= set(others)}
+    for more in ties_of_new(new, others, one_way):
+        found.append(holds_when_ready(rest[1], {**laid, rest[0]: new}, kept | more, one_way))
     return any(found) if word == "some" else all(found)
 
 
-def plain_ways_by_rule(formula, names):
-    """Point 16: the ways of the free names, in order, by which it holds where a web is ready enough."""
+def plain_ways_by_rule(formula, names, one_way=False):
+    """Points 16 and 35: the ways of the free names, in order, by which it holds where all is ready enough."""
     found = []
-    for way in ways_by_rule(len(names)):
-        sign = dict(zip(itertools.combinations(range(len(names)), 2), way))
+    for way in ways_by_rule(len(names), one_way):
+        sign = sign_table(way, len(names), one_way)
         # Names that stand alike have the first one's number as their place.
         place = [min([a for a in range(at) if sign[a, at] == "s"], default=at) for at in range(len(names))]
-        ties = {frozenset((place[a], place[b])) for a, b in sign if sign[a, b] == "t"}
-        if holds_when_ready(formula, dict(zip(names, place)), ties):
+        ties = {(place[a], place[b]) for a, b in sign if sign[a, b] == "t"}
+        if holds_when_ready(formula, dict(zip(names, place)), ties, one_way):
             found.append(way)
     return found
 

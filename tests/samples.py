@@ -6,6 +6,8 @@ import random
 import time
 import unittest
 
+from almostall.ladders import Ladder
+from almostall.marked import MarkedWeb
 from almostall.webs import Web
 
 NAMES = ("x", "y", "z", "w")
@@ -65,6 +67,27 @@ def all_webs(count):
     for many in range(len(pairs) + 1):
         for ties in itertools.combinations(pairs, many):
             yield Web(count, list(ties))
+
+
+def made_ladder(dice, count):
+    pairs = itertools.combinations(range(count), 2)
+    return Ladder(count, [tuple(dice.sample(pair, 2)) for pair in pairs])
+
+
+def all_ladders(count):
+    pairs = list(itertools.combinations(range(count), 2))
+    for turns in itertools.product((1, -1), repeat=len(pairs)):
+        yield Ladder(count, [pair[::turn] for pair, turn in zip(pairs, turns)])
+
+
+def made_marked(dice, count):
+    return MarkedWeb(count, list(made_web(dice, count).ties), [place for place in range(count) if dice.random() < 0.5])
+
+
+def all_marked(count):
+    for web in all_webs(count):
+        for truths in itertools.product((False, True), repeat=count):
+            yield MarkedWeb(count, list(web.ties), [place for place in range(count) if truths[place]])
 
 
 def made_sentence(dice, parts, names=NAMES):

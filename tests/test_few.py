@@ -120,8 +120,9 @@ class CountedShare(Refusing):
             for n in (1, 2, 3, 4):
                 self.told(SENTENCES[1], n, chance)
             top, bottom = counted_share(SENTENCES[1], 5, chance)
-            again = (top, bottom) if Fraction(1, 4) <= Fraction(top, bottom) <= Fraction(3, 4) else (bottom - top, bottom)
             self.assertEqual(math.gcd(top, bottom), 1)
+            # A share that was told, of far more figures, is a chance as well.
+            again = counted_share(SENTENCES[0], 3, chance)
             self.assertEqual(Fraction(*counted_share(SENTENCES[2], 3, again)), Fraction(*again) ** 3)
 
     def test_many_sentences_of_many_parts(self):
@@ -207,8 +208,8 @@ class LeastWeb(Refusing):
         web = least_web(SENTENCES[5], 5)
         self.assertEqual((web.count, web.ties), (3, ((0, 1), (0, 2))))
         # Each place has just one that it is tied to, and there are more than two of them.
-        web = least_web(read("((all x some y tied(x, y) and some x some y not (tied(x, y) or same(x, y))) and all x all y "
-                             "all z (not (tied(x, y) and tied(x, z)) or same(y, z)))"), 5)
+        web = least_web(read("((all x some y tied(x, y) and some x some y not (tied(x, y) or same(x, y))) and "
+                             "all x all y all z (not (tied(x, y) and tied(x, z)) or same(y, z)))"), 5)
         self.assertEqual((web.count, web.ties), (4, ((0, 1), (2, 3))))
 
     def test_none_where_there_is_none(self):
@@ -306,9 +307,10 @@ class ChanceBound(Refusing):
             for k in range(4):
                 top, bottom = chance_bound(1000, k, chance)
                 self.assertLess(top, bottom)
-            # Numbers of a few hundred figures, as shares that were told have them.
-            again = counted_share(read("some x some y tied(x, y)"), 2, (4 * FORTY_FIGURES + 3, 9 * FORTY_FIGURES + 7))
-            self.assertEqual(chance_bound(300, 3, again), chance_bound(300, 3, chance))
+            # A share that was told, of far more figures, is a chance as well.
+            again = counted_share(SENTENCES[0], 3, (FORTY_FIGURES + 1, 3 * FORTY_FIGURES + 1))
+            self.told(40, 2, again)
+            self.assertLess(*chance_bound(1000, 2, again))
 
     def test_the_ends_are_chances(self):
         for chance in ((1, 4), (3, 4), (FORTY_FIGURES, 4 * FORTY_FIGURES - 1)):

@@ -152,16 +152,18 @@ class Language(unittest.TestCase):
                         self.assertIn(node.id, BUILTINS)
 
     def test_no_name_is_a_method_and_an_attribute(self):
-        methods, attributes = set(), set()
+        methods, attributes, values = set(), set(), set()
         for source in self.sources:
             for node in source.of(ast.ClassDef):
                 methods |= {each.name for each in node.body if isinstance(each, ast.FunctionDef)}
+                values |= {target.id for each in node.body if isinstance(each, ast.Assign) for target in each.targets}
             attributes |= {node.attr for node in source.of(ast.Attribute) if isinstance(node.ctx, ast.Store)}
         self.assertEqual(methods & attributes, set())
+        self.assertEqual(values & (methods | attributes | METHODS), set())
         for source in self.sources:
             with self.subTest(file=source.path.name):
                 for node in source.of(ast.Attribute):
-                    self.assertIn(node.attr, methods | attributes | METHODS)
+                    self.assertIn(node.attr, methods | attributes | values | METHODS)
                     self.assertNotIn(node.attr, BARRED_NAMES)
 
     def test_nothing_calls_itself(self):
